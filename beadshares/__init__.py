@@ -1,0 +1,1 @@
+"""Beadshares: strings of beads shared by few cuts."""
