@@ -32,3 +32,24 @@ def only_tuples(value):
     if type(value) is tuple:
         return all(only_tuples(part) for part in value)
     return value is None or type(value) in (int, str, bool)
+
+
+LONG = 10 ** 30
+
+# Six runs of the greatest length.
+GREAT = String(((0, LONG), (1, LONG), (2, LONG), (3, LONG), (0, LONG), (1, LONG)))
+GREAT_TWO = String(((0, LONG), (1, LONG)) * 3)
+
+
+def spoilt(value):
+    """Return copies of a tuple, each with one part that is of a wrong kind or missing.
+
+    The part is replaced by a list, a bool or a string, is left out or put in twice.
+    """
+    found = [list(value), None, dict(enumerate(value)), value + (None,), value + (SAMPLE,)]
+    for at, part in enumerate(value):
+        others = spoilt(part) if isinstance(part, tuple) else [
+            True, False, str(part), None, (part,), [part], SAMPLE, -1]
+        found += [value[:at] + (other,) + value[at + 1:] for other in others]
+        found += [value[:at] + value[at + 1:], value[:at] + (part,) + value[at:]]
+    return found

@@ -77,6 +77,31 @@ class LanguageTest(unittest.TestCase):
                 self.assertIn(node.id, BUILTINS, name)
                 self.assertIsInstance(node.ctx, ast.Load, name)
 
+    def test_no_local_name_has_another_meaning_in_its_file(self):
+        for path, tree in TREES.items():
+            imported = {alias.name for node in ast.walk(tree) if isinstance(node, ast.ImportFrom)
+                        for alias in node.names}
+            classes = {node.name for node in ast.walk(tree) if isinstance(node, ast.ClassDef)}
+            taken = imported | classes | set(PYTHONS_OWN)
+            bound = {node.id for node in ast.walk(tree)
+                     if isinstance(node, ast.Name) and isinstance(node.ctx, ast.Store)}
+            bound |= {node.arg for node in ast.walk(tree) if isinstance(node, ast.arg)}
+            bound |= {node.name for node in tree.body if isinstance(node, ast.FunctionDef)}
+            self.assertEqual(bound & taken, set(), path.name)
+
+    def test_no_generator_where_a_class_compares(self):
+        found = [name for name, _ in nodes((ast.GeneratorExp, ast.Yield, ast.YieldFrom))]
+        self.assertEqual(found, [])
+
+    def test_no_file_imports_itself_by_way_of_others(self):
+        ahead = {path.stem: [node.module.split(".")[1] for node in tree.body
+                             if isinstance(node, ast.ImportFrom)] for path, tree in TREES.items()}
+        for first in ahead:
+            reached = list(ahead[first])
+            for name in reached:
+                reached += [other for other in ahead[name] if other not in reached]
+            self.assertNotIn(first, reached)
+
     def test_no_percent_sign_in_a_string_and_no_float(self):
         for name, node in nodes(ast.Constant):
             self.assertNotIsInstance(node.value, float, name)
