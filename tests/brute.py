@@ -1,6 +1,7 @@
 """Dealings of short strings, told bead by bead, to hold the program against."""
 
 import itertools
+from fractions import Fraction
 
 from beadshares.strings import String
 
@@ -48,6 +49,71 @@ def wishes(string, many):
 
 def groups(many):
     return [some for size in range(1, many) for some in itertools.combinations(range(many), size)]
+
+
+def miss(string, wish, dealing):
+    """Return how far what taker 0 has is from what it wishes."""
+    return sum(abs(a - b) for a, b in zip(held(string, 2, dealing)[0], wish[0]))
+
+
+def windows(string):
+    """Return all places from which on half of the beads have half of each kind."""
+    kinds = [kind for _, kind in beads_of(string)]
+    span = len(kinds) // 2
+    return [place for place in range(len(kinds) - span + 1)
+            if all(2 * kinds[place:place + span].count(kind) == string.totals[kind]
+                   for kind in range(4))]
+
+
+def ring_dealings(string, cuts):
+    """Return all ring dealings with so many cuts."""
+    return list(itertools.product(itertools.combinations(range(string.length), cuts), (0, 1)))
+
+
+def ring_held(string, dealing):
+    """Return what both takers have, going along the ring from its first cut on."""
+    cuts, taker = dealing
+    kinds = [kind for _, kind in beads_of(string)]
+    counts = [[0] * 4, [0] * 4]
+    begin = cuts[0] if cuts else 0
+    for step in range(len(kinds)):
+        place = (begin + step) % len(kinds)
+        if place in cuts and step > 0:
+            taker = 1 - taker
+        counts[taker][kinds[place]] += 1
+    return tuple(map(tuple, counts))
+
+
+def lengths_of(pattern):
+    """Return all lengths of a pattern."""
+    return list(itertools.product(*[range(low, high + 1, step) for _, low, high, step in pattern]))
+
+
+def plan_is_right(pattern, weights, plan, lengths):
+    """Tell whether a plan is right for lengths, which may be great; word for word as [18]."""
+    cuts, takers = plan
+    values = [Fraction(constant + sum(map(int.__mul__, factors, lengths)), bottom)
+              for _, (bottom, constant, factors) in cuts]
+    if any(value.denominator != 1 for value in values):
+        return False
+    if any(not 1 <= value <= lengths[number] for value, (number, _) in zip(values, cuts)):
+        return False
+    places = [sum(lengths[:number]) + int(value) for value, (number, _) in zip(values, cuts)]
+    ends = [0, *places, sum(lengths)]
+    if any(a >= b for a, b in zip(ends, ends[1:])):
+        return False
+    for kind in range(4):
+        total = sum(length for item, length in zip(pattern, lengths) if item[0] == kind)
+        for taker, weight in enumerate(weights):
+            has = 0
+            for at, (item, length) in enumerate(zip(pattern, lengths)):
+                first = sum(lengths[:at])
+                has += sum(max(0, min(b, first + length) - max(a, first))
+                           for a, b, owner in zip(ends, ends[1:], takers)
+                           if owner == taker and item[0] == kind)
+            if has * sum(weights) != total * weight:
+                return False
+    return True
 
 
 class Table:
