@@ -1,12 +1,15 @@
-"""What [3] and the interface say of all functions so far."""
+"""What [3] and the interface say of all functions."""
 
 import copy
 import importlib
 import inspect
 import unittest
 
-from beadshares.errors import ShareError
+from beadshares.benches import Bench
+from beadshares.desks import Desk
+from beadshares.errors import BadRing, BadTakers, BadText, BadWeights, ShareError
 from beadshares.strings import String
+from beadshares.walkers import Walker
 from tests.samples import NOTHING_RIGHT, SAMPLE, only_tuples, spoilt
 
 INTERFACE = {
@@ -19,6 +22,13 @@ INTERFACE = {
                 "ranges": "string wish layout"},
     "cutting": {"possible": "string wish cuts", "fewest": "string wish", "deal": "string wish",
                 "paper": "string wish cuts", "paper_holds": "string wish cuts value"},
+    "nearness": {"nearest": "string wish cuts", "windows": "string"},
+    "rings": {"ring_dealt": "string value", "ring_deal": "string wish"},
+    "plans": {"pattern_error": "value", "string_of": "pattern lengths",
+              "plan_error": "pattern many value", "fails": "pattern weights plan",
+              "plan_dealing": "pattern plan lengths"},
+    "texts": {"string_text": "string", "read_string": "value", "dealing_text": "dealing",
+              "read_dealing": "string many value"},
 }
 FUNCTIONS = {name: getattr(importlib.import_module(f"beadshares.{module}"), name)
              for module, told in INTERFACE.items() for name in told}
@@ -30,6 +40,8 @@ PAPER = ((((), (0,)), 0, (1,)), (((), (1,)), 1, (0,)))
 WISH = ((3, 3, 0, 0), (3, 3, 0, 0))
 LAYOUT = ((0, 3), (0, 1, 0))
 DEALING = ((3, 9), (0, 1, 0))
+PATTERN = ((0, 2, 8, 2), (1, 2, 8, 2))
+PLAN = (((0, (2, 0, (1, 0))), (1, (2, 0, (0, 1)))), (0, 1, 0))
 CALLS = [
     ("wish_error", (SAMPLE, WISH), None),
     ("wish_error", (SAMPLE, [WISH[0], [3, 3, 0, 0]]), "takers"),
@@ -55,7 +67,29 @@ CALLS = [
     ("paper", (SAMPLE, WISH, 2), None),
     ("paper_holds", (SAMPLE, WISH, 0, PAPER), True),
     ("paper_holds", (SAMPLE, WISH, 0, list(PAPER)), False),
+    ("nearest", (SAMPLE, THREE[:1] + ((0, 6, 0, 0),), 0), (6, ((), (0,)))),
+    ("nearest", (SAMPLE, WISH, 2), (0, DEALING)),
+    ("windows", (SAMPLE,), ((3, 3),)),
+    ("ring_dealt", (SAMPLE, ((3, 9), 1)), WISH),
+    ("ring_deal", (SAMPLE, WISH), ((3, 9), 1)),
+    ("ring_deal", (SAMPLE, ((6, 6, 0, 0), (0, 0, 0, 0))), ((), 0)),
+    ("pattern_error", (PATTERN,), None),
+    ("pattern_error", ([*PATTERN],), (None, "pattern")),
+    ("string_of", (PATTERN, (4, 6)), String(((0, 4), (1, 6)))),
+    ("plan_error", (PATTERN, 2, PLAN), None),
+    ("plan_error", (PATTERN, 2, (list(PLAN[0]), PLAN[1])), "cuts"),
+    ("fails", (PATTERN, (1, 1), PLAN), None),
+    ("fails", (((0, 3, 3, 1), (1, 2, 2, 1)), (1, 1), PLAN), (3, 2)),
+    ("plan_dealing", (PATTERN, PLAN, (4, 6)), ((2, 7), (0, 1, 0))),
+    ("string_text", (SAMPLE,), "4a 2b 2a 4b"),
+    ("read_string", (" 4a  2b 2a 4b",), SAMPLE),
+    ("dealing_text", (DEALING,), "3 9 to 0 1 0"),
+    ("read_dealing", (SAMPLE, 2, "3 9 to 0 1 0"), DEALING),
 ]
+
+
+ANY_VALUES = [*NOTHING_RIGHT, *spoilt(WISH), *spoilt(DEALING), *spoilt(LAYOUT), *spoilt(PAPER),
+              *spoilt(PATTERN), *spoilt(PLAN), Walker(SAMPLE, WISH, 2), Bench(SAMPLE), Desk(Bench(SAMPLE))]
 
 
 class InterfaceTest(unittest.TestCase):
@@ -76,7 +110,7 @@ class CallsTest(unittest.TestCase):
     def assert_same(self, found, expected):
         self.assertEqual(found, expected)
         self.assertIs(type(found), type(expected))
-        self.assertTrue(only_tuples(found))
+        self.assertTrue(isinstance(found, String) or only_tuples(found))
 
     def test_by_position_and_by_name(self):
         for name, arguments, expected in CALLS:
@@ -93,23 +127,36 @@ class CallsTest(unittest.TestCase):
                 for _ in range(2):
                     self.assert_same(FUNCTIONS[name](*held), expected)
                     self.assertEqual(held, arguments)
-                    self.assertEqual(held[0].runs, SAMPLE.runs)
+                    if isinstance(held[0], String):
+                        self.assertEqual(held[0].runs, SAMPLE.runs)
 
     def test_any_value_is_answered_and_not_changed(self):
-        any_values = {"wish_error": (), "dealing_error": (2,), "is_right": (WISH,),
-                      "is_layout": (3,), "paper_holds": (WISH, 1)}
-        values = [*NOTHING_RIGHT, *spoilt(WISH), *spoilt(DEALING), *spoilt(LAYOUT), *spoilt(PAPER)]
-        for name, between in any_values.items():
-            for value in values:
+        any_values = {"wish_error": (SAMPLE,), "dealing_error": (SAMPLE, 2), "is_right": (SAMPLE, WISH),
+                      "is_layout": (SAMPLE, 3), "paper_holds": (SAMPLE, WISH, 1), "pattern_error": (),
+                      "plan_error": (PATTERN, 2)}
+        for name, ahead in any_values.items():
+            for value in ANY_VALUES:
                 before = repr(value)
                 with self.subTest(name=name, value=value):
-                    FUNCTIONS[name](SAMPLE, *between, value)
+                    self.assertTrue(only_tuples(FUNCTIONS[name](*ahead, value)))
                     self.assertEqual(repr(value), before)
+
+    def test_any_value_is_answered_or_refused_with_the_errors_that_are_told(self):
+        any_values = {"even": (SAMPLE,), "shares": (SAMPLE,), "ring_dealt": (SAMPLE,), "read_string": (),
+                      "read_dealing": (SAMPLE, 2)}
+        told = {"even": BadTakers, "shares": BadWeights, "ring_dealt": BadRing, "read_string": BadText,
+                "read_dealing": BadText}
+        for name, ahead in any_values.items():
+            for value in ANY_VALUES:
+                before = repr(value)
+                with self.subTest(name=name, value=value), self.assertRaises(told[name]):
+                    FUNCTIONS[name](*ahead, value)
+                self.assertEqual(repr(value), before)
 
     def test_a_call_that_raises_changes_nothing(self):
         string = String(SAMPLE.runs)
         weights = [1, {"a": [2]}]
-        for name, value in (("even", weights), ("shares", weights), ("shares", (1, 4))):
+        for name, value in (("even", weights), ("shares", weights), ("shares", (1, 4)), ("ring_dealt", weights)):
             with self.assertRaises(ShareError):
                 FUNCTIONS[name](string, value)
         self.assertEqual((string.runs, weights), (SAMPLE.runs, [1, {"a": [2]}]))

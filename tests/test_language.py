@@ -108,6 +108,28 @@ class LanguageTest(unittest.TestCase):
             if isinstance(node.value, str):
                 self.assertNotIn("%", node.value, name)
 
+    def test_what_is_indexed_is_not_walked_over(self):
+        for name, node in nodes(ast.ClassDef):
+            told = {part.name: part for part in node.body if isinstance(part, ast.FunctionDef)}
+            if "__getitem__" in told:
+                self.assertIsInstance(told["__iter__"].body[-1], ast.Raise, name)
+
+    def test_sets_stand_where_they_may(self):
+        # A set comprehension stands in sorted(..), or it is stored once by a plain statement.
+        allowed = []
+        for name, node in nodes((ast.Call, ast.Assign)):
+            if isinstance(node, ast.Assign):
+                allowed.append(node.value)
+            elif isinstance(node.func, ast.Name) and node.func.id == "sorted":
+                allowed += node.args
+        for name, node in nodes((ast.SetComp, ast.Set)):
+            self.assertTrue(any(node is other for other in allowed), name)
+
+    def test_python_s_own_errors_are_not_caught(self):
+        errors = {node.name for name, node in nodes(ast.ClassDef) if name == "errors.py"}
+        for name, node in nodes(ast.ExceptHandler):
+            self.assertIn(node.type.id, errors, name)
+
     def test_no_name_is_a_method_here_and_an_attribute_there(self):
         methods = {part.name for _, node in nodes(ast.ClassDef)
                    for part in node.body if isinstance(part, ast.FunctionDef)}
